@@ -1,0 +1,1 @@
+"""Keptpictures: pictures kept in files, and what a torn file still tells."""

@@ -1,0 +1,1 @@
+"""Palettes, and the orders in which a picture's colours stand in one."""

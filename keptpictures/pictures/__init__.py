@@ -1,0 +1,1 @@
+"""Pictures, and recipes that change them."""

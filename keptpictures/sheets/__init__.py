@@ -1,0 +1,1 @@
+"""Sheets of samples, and questions about them."""
