@@ -8,6 +8,14 @@ FUNCTIONS = {
     "keptpictures.sheets.question": ("joined", "parting_sheet"),
     "keptpictures.pictures.recipe": ("apply_edits", "recipe_of", "parting_picture"),
     "keptpictures.palettes.orders": ("palette_of", "drawing", "renaming"),
+    "keptpictures.passes.tracks": ("is_word", "grid_steps", "pass_of", "tracks", "pass_bounds"),
+    "keptpictures.passes.views": ("coarse_view",),
+    "keptpictures.filters.folds": ("fold", "unfold"),
+    "keptpictures.filters.prediction": ("neighbours", "predicted"),
+    "keptpictures.filters.lanes": ("lane_numbers", "sheet_numbers", "sheet_of_numbers"),
+    "keptpictures.codes.table": ("width_of",),
+    "keptpictures.codes.tokens": ("numbers_of", "write_tokens", "least_tokens", "price"),
+    "keptpictures.codes.scanner": ("read_lane", "complete_lane"),
 }
 
 METHODS = {
@@ -22,12 +30,23 @@ METHODS = {
     ("keptpictures.palettes.palette", "Palette"): (
         "__init__", "__len__", "__getitem__", "__iter__", "__contains__", "__eq__",
         "index", "indexed", "painted", "merged", "shifted", "LIMIT"),
+    ("keptpictures.codes.table", "Table"): (
+        "__init__", "__eq__", "literal", "repetition", "serves", "ladder", "preset", "LONGEST"),
+    ("keptpictures.codes.scanner", "Scanner"): ("__init__", "feed", "done", "numbers", "used"),
 }
 
 STATIC = (
     ("keptpictures.sheets.sheet", "Sheet", "even"),
     ("keptpictures.sheets.question", "Question", "cell"),
     ("keptpictures.pictures.picture", "Picture", "of"),
+    ("keptpictures.codes.table", "Table", "ladder"),
+    ("keptpictures.codes.table", "Table", "preset"),
+)
+
+PROPERTIES = (
+    ("keptpictures.codes.scanner", "Scanner", "done"),
+    ("keptpictures.codes.scanner", "Scanner", "numbers"),
+    ("keptpictures.codes.scanner", "Scanner", "used"),
 )
 
 ARGUMENTS = {
@@ -57,6 +76,34 @@ ARGUMENTS = {
     ("keptpictures.palettes.orders", "palette_of"): "(picture, order='value')",
     ("keptpictures.palettes.orders", "drawing"): "(picture)",
     ("keptpictures.palettes.orders", "renaming"): "(one, other)",
+    ("keptpictures.passes.tracks", "is_word"): "(word)",
+    ("keptpictures.passes.tracks", "grid_steps"): "(word, number)",
+    ("keptpictures.passes.tracks", "pass_of"): "(x, y, word)",
+    ("keptpictures.passes.tracks", "tracks"): "(width, height, word='')",
+    ("keptpictures.passes.tracks", "pass_bounds"): "(width, height, word, sheets=1)",
+    ("keptpictures.passes.views", "coarse_view"): "(sheet, word, passes)",
+    ("keptpictures.filters.folds", "fold"): "(residual, modulus)",
+    ("keptpictures.filters.folds", "unfold"): "(number, modulus)",
+    ("keptpictures.filters.prediction", "neighbours"): "(number, letter)",
+    ("keptpictures.filters.prediction", "predicted"): "(sheet, x, y, number, word)",
+    ("keptpictures.filters.lanes", "lane_numbers"): "(sheet, track, number, word)",
+    ("keptpictures.filters.lanes", "sheet_numbers"): "(sheet, word, filters)",
+    ("keptpictures.filters.lanes", "sheet_of_numbers"): "(modulus, width, height, word, filters, numbers)",
+    ("keptpictures.codes.table", "width_of"): "(modulus)",
+    ("keptpictures.codes.table", "Table"): "(rungs, repeat=None)",
+    ("keptpictures.codes.table", "Table.literal"): "(self, number)",
+    ("keptpictures.codes.table", "Table.repetition"): "(self, number)",
+    ("keptpictures.codes.table", "Table.serves"): "(self, modulus)",
+    ("keptpictures.codes.table", "Table.ladder"): "(first, repeats, modulus)",
+    ("keptpictures.codes.table", "Table.preset"): "(number, modulus)",
+    ("keptpictures.codes.tokens", "numbers_of"): "(tokens)",
+    ("keptpictures.codes.tokens", "write_tokens"): "(tokens, table)",
+    ("keptpictures.codes.tokens", "least_tokens"): "(numbers, table)",
+    ("keptpictures.codes.tokens", "price"): "(numbers, table)",
+    ("keptpictures.codes.scanner", "read_lane"): "(bits, count, modulus, table)",
+    ("keptpictures.codes.scanner", "complete_lane"): "(bits, count, modulus, table)",
+    ("keptpictures.codes.scanner", "Scanner"): "(count, modulus, table)",
+    ("keptpictures.codes.scanner", "Scanner.feed"): "(self, bits)",
 }
 
 
@@ -83,6 +130,10 @@ class InterfaceTest(unittest.TestCase):
     def test_static_methods(self):
         for module, name, method in STATIC:
             self.assertIsInstance(vars(found(module, name))[method], staticmethod)
+
+    def test_properties(self):
+        for module, name, attribute in PROPERTIES:
+            self.assertIsInstance(vars(found(module, name))[attribute], property)
 
     def test_arguments(self):
         for (module, path), arguments in ARGUMENTS.items():

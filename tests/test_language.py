@@ -59,6 +59,20 @@ class LanguageTest(unittest.TestCase):
         for file, node in nodes((ast.BinOp, ast.AugAssign)):
             self.assertNotIsInstance(node.op, ast.Div, file)
 
+    def test_the_only_decorators_are_those_of_static_methods_and_properties(self):
+        for file, node in nodes((ast.FunctionDef, ast.ClassDef)):
+            for decorator in node.decorator_list:
+                self.assertIsInstance(node, ast.FunctionDef, file)
+                self.assertIn(ast.unparse(decorator), ("staticmethod", "property"), (file, node.name))
+
+    def test_lists_are_not_sorted_in_place(self):
+        for file, node in nodes(ast.Attribute):
+            self.assertNotEqual(node.attr, "sort", file)
+
+    def test_there_are_no_generator_expressions(self):
+        # They would be allowed in a few places that the package does not need.
+        self.assertEqual(nodes(ast.GeneratorExp), [])
+
     def test_only_named_errors_are_caught(self):
         for file, node in nodes(ast.ExceptHandler):
             names = [name.id for name in ast.walk(node.type) if isinstance(name, ast.Name)]

@@ -1,0 +1,1 @@
+"""Codes: the bits that stand for the numbers of a lane."""

@@ -1,0 +1,1 @@
+"""Filters: what is left of a sample when the samples sent before it are known."""

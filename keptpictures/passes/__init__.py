@@ -1,0 +1,1 @@
+"""Passes: the order in which the cells of a sheet are sent."""
