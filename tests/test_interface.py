@@ -16,6 +16,12 @@ FUNCTIONS = {
     "keptpictures.codes.table": ("width_of",),
     "keptpictures.codes.tokens": ("numbers_of", "write_tokens", "least_tokens", "price"),
     "keptpictures.codes.scanner": ("read_lane", "complete_lane"),
+    "keptpictures.codes.lengths": ("least_lengths", "least_table"),
+    "keptpictures.codes.packing": ("pack", "unpack"),
+    "keptpictures.chunks.sums": ("double", "closing", "write_chunk"),
+    "keptpictures.chunks.pieces": ("pieces", "is_sound"),
+    "keptpictures.chunks.mending": ("mended",),
+    "keptpictures.files.plan": ("even_plan",),
 }
 
 METHODS = {
@@ -33,6 +39,8 @@ METHODS = {
     ("keptpictures.codes.table", "Table"): (
         "__init__", "__eq__", "literal", "repetition", "serves", "ladder", "preset", "LONGEST"),
     ("keptpictures.codes.scanner", "Scanner"): ("__init__", "feed", "done", "numbers", "used"),
+    ("keptpictures.files.head", "Head"): ("__init__", "__eq__", "content", "of"),
+    ("keptpictures.files.plan", "Plan"): ("__init__", "__eq__"),
 }
 
 STATIC = (
@@ -41,6 +49,7 @@ STATIC = (
     ("keptpictures.pictures.picture", "Picture", "of"),
     ("keptpictures.codes.table", "Table", "ladder"),
     ("keptpictures.codes.table", "Table", "preset"),
+    ("keptpictures.files.head", "Head", "of"),
 )
 
 PROPERTIES = (
@@ -104,6 +113,22 @@ ARGUMENTS = {
     ("keptpictures.codes.scanner", "complete_lane"): "(bits, count, modulus, table)",
     ("keptpictures.codes.scanner", "Scanner"): "(count, modulus, table)",
     ("keptpictures.codes.scanner", "Scanner.feed"): "(self, bits)",
+    ("keptpictures.codes.lengths", "least_lengths"): "(counts)",
+    ("keptpictures.codes.lengths", "least_table"): "(widths, numbers)",
+    ("keptpictures.codes.packing", "pack"): "(bits)",
+    ("keptpictures.codes.packing", "unpack"): "(content)",
+    ("keptpictures.chunks.sums", "double"): "(number)",
+    ("keptpictures.chunks.sums", "closing"): "(kind, content)",
+    ("keptpictures.chunks.sums", "write_chunk"): "(kind, content)",
+    ("keptpictures.chunks.pieces", "pieces"): "(data)",
+    ("keptpictures.chunks.pieces", "is_sound"): "(piece)",
+    ("keptpictures.chunks.mending", "mended"): "(piece)",
+    ("keptpictures.files.head", "Head"): "(width, height, depths, mask=False, *, colours=0, word='', spares=0)",
+    ("keptpictures.files.head", "Head.content"): "(self)",
+    ("keptpictures.files.head", "Head.of"): "(content)",
+    ("keptpictures.files.plan", "Plan"): "(palette=None, *, word='', spares=0, chunks=())",
+    ("keptpictures.files.plan", "even_plan"):
+        "(picture, *, palette=None, word='', spares=0, code=0, kind=0, most=100)",
 }
 
 

@@ -1,0 +1,1 @@
+"""Files: chunks that hold a picture."""
