@@ -22,6 +22,13 @@ FUNCTIONS = {
     "keptpictures.chunks.pieces": ("pieces", "is_sound"),
     "keptpictures.chunks.mending": ("mended",),
     "keptpictures.files.plan": ("even_plan",),
+    "keptpictures.files.contents": ("read_data", "read_spare"),
+    "keptpictures.files.bodies": ("body_of", "spare_rows"),
+    "keptpictures.files.writer": ("write_file",),
+    "keptpictures.files.whole": ("read_file", "read_plan", "tidy", "first_wrong", "chunks_of"),
+    "keptpictures.files.completion": ("completion",),
+    "keptpictures.hurts.remains": ("salvage", "select_rows"),
+    "keptpictures.hurts.fitting": ("fits", "whole_file"),
 }
 
 METHODS = {
@@ -41,6 +48,9 @@ METHODS = {
     ("keptpictures.codes.scanner", "Scanner"): ("__init__", "feed", "done", "numbers", "used"),
     ("keptpictures.files.head", "Head"): ("__init__", "__eq__", "content", "of"),
     ("keptpictures.files.plan", "Plan"): ("__init__", "__eq__"),
+    ("keptpictures.files.reader", "Reader"): (
+        "__init__", "feed", "taken", "whole_chunks", "received_lanes", "received_passes", "done", "coarse", "picture"),
+    ("keptpictures.hurts.remains", "Remains"): ("__init__",),
 }
 
 STATIC = (
@@ -56,6 +66,11 @@ PROPERTIES = (
     ("keptpictures.codes.scanner", "Scanner", "done"),
     ("keptpictures.codes.scanner", "Scanner", "numbers"),
     ("keptpictures.codes.scanner", "Scanner", "used"),
+    ("keptpictures.files.reader", "Reader", "taken"),
+    ("keptpictures.files.reader", "Reader", "whole_chunks"),
+    ("keptpictures.files.reader", "Reader", "received_lanes"),
+    ("keptpictures.files.reader", "Reader", "received_passes"),
+    ("keptpictures.files.reader", "Reader", "done"),
 )
 
 ARGUMENTS = {
@@ -129,6 +144,25 @@ ARGUMENTS = {
     ("keptpictures.files.plan", "Plan"): "(palette=None, *, word='', spares=0, chunks=())",
     ("keptpictures.files.plan", "even_plan"):
         "(picture, *, palette=None, word='', spares=0, code=0, kind=0, most=100)",
+    ("keptpictures.files.contents", "read_data"): "(head, content)",
+    ("keptpictures.files.contents", "read_spare"): "(head, content)",
+    ("keptpictures.files.bodies", "body_of"): "(picture, palette=None)",
+    ("keptpictures.files.bodies", "spare_rows"): "(body, word, number, spares)",
+    ("keptpictures.files.writer", "write_file"): "(picture, plan)",
+    ("keptpictures.files.reader", "Reader"): "()",
+    ("keptpictures.files.reader", "Reader.feed"): "(self, *data)",
+    ("keptpictures.files.reader", "Reader.coarse"): "(self)",
+    ("keptpictures.files.reader", "Reader.picture"): "(self)",
+    ("keptpictures.files.whole", "read_file"): "(data)",
+    ("keptpictures.files.whole", "read_plan"): "(data)",
+    ("keptpictures.files.whole", "tidy"): "(data)",
+    ("keptpictures.files.whole", "first_wrong"): "(data)",
+    ("keptpictures.files.whole", "chunks_of"): "(data)",
+    ("keptpictures.files.completion", "completion"): "(data)",
+    ("keptpictures.hurts.remains", "salvage"): "(data, *, head=None, palette=None, mend=False)",
+    ("keptpictures.hurts.remains", "select_rows"): "(report, **fields)",
+    ("keptpictures.hurts.fitting", "fits"): "(remains, body)",
+    ("keptpictures.hurts.fitting", "whole_file"): "(remains, body)",
 }
 
 

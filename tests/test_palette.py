@@ -84,7 +84,8 @@ class PaletteTest(unittest.TestCase):
 
     def test_a_palette_equals_nothing_but_palettes(self):
         palette = Palette([(1,), (0,)], (1,))
-        for other in (palette.entries, [(1,), (0,)], ((1,), (0,)), None, 2, "palette", Picture.of((1,), [[(1,), (0,)]])):
+        for other in (palette.entries, [(1,), (0,)], ((1,), (0,)), None, 2, "palette",
+                      Picture.of((1,), [[(1,), (0,)]])):
             self.assertFalse(palette == other)
             self.assertFalse(other == palette)
 

@@ -48,6 +48,16 @@ class Scanner:
         """Tell whether a coded lane begins with the bits taken and this one."""
         return len(self._entries_with(bit)) > 0
 
+    def copied(self):
+        """Return a scanner that has taken the same bits and goes on by itself."""
+        other = Scanner(0, self._modulus, self._table)
+        other._left = self._left
+        other._tokens = list(self._tokens)
+        other._used = self._used
+        other._part = self._part
+        other._entries = self._entries
+        return other
+
     def _entries_with(self, bit):
         """Return those entries of the table that the token can still have with this bit."""
         part = self._part + bit

@@ -1,0 +1,1 @@
+"""Hurts: files that lost something, and what is left of them."""
