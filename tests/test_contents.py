@@ -108,6 +108,10 @@ class ReadDataTest(unittest.TestCase):
             self.check(head, (number, 0, 1, 0, 0), 0)
         for number in (32, 33, 127):
             self.check(head, (1, number, 1, 0, 0), 1)
+        # There are exactly 128 lanes, so the first number is 0.
+        exact = Head(1, 32, (1, 1, 1, 1))
+        self.check(exact, (1,), 0)
+        self.assertEqual(read_data(exact, (0, 127, 1, 0, 0)), (127, 0, (0,), ((0,),)))
         small = Head(1, 3, (1,))
         self.check(small, (1, 0, 1, 0, 0), 0)
         self.check(small, (0, 3, 1, 0, 0), 1)

@@ -93,11 +93,13 @@ class SoundTest(unittest.TestCase):
         self.assertIs(is_sound(chunk + (200,)), False)
 
     def test_a_mark_inside_is_never_sound(self):
-        # The bytes behind the content would be the right ones if 200 were a number of a content.
         for inside in range(128, 256):
             for total in range(128):
                 self.assertIs(is_sound((130, inside, 1, total, 0)), False)
-        self.assertIs(is_sound((128, 128, 128, 1, 1, 5)), False)
+        # The last three bytes would be the right ones if numbers above 127 could stand in a content.
+        for piece in ((130, 128, 128, 2, 0, 20), (130, 128, 129, 2, 1, 22), (130, 0, 128, 128, 3, 1, 37),
+                      (130, 0, 128, 200, 3, 73, 54)):
+            self.assertIs(is_sound(piece), False, piece)
 
     def test_every_wrong_closing_byte(self):
         piece = write_chunk(2, (0, 0, 1, 0, 4))

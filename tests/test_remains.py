@@ -174,6 +174,17 @@ class PalettesTest(unittest.TestCase):
         remains = salvage(bytes_of([HEAD, PALETTE]))
         self.assertEqual(states(remains), [(0, "kept"), (1, "idle")])
         self.assertIsNone(remains.palette)
+        empty = salvage(bytes_of([HEAD, (1, ())]))
+        self.assertEqual(states(empty), [(0, "kept"), (1, "idle")])
+        self.assertIsNone(empty.palette)
+
+    def test_palettes_of_one_and_of_64_colours(self):
+        for depths, many, content in (((3,), 1, packed_by_hand("101")),
+                                      ((6,), 64, packed_by_hand("".join(format(n, "06b") for n in range(64))))):
+            head = Head(1, 1, depths, colours=many)
+            remains = salvage(bytes_of([(0, head.content()), (1, content), (1, content)]))
+            self.assertEqual(states(remains), [(0, "kept"), (1, "kept"), (1, "idle")])
+            self.assertEqual(len(remains.palette), many)
 
     def test_a_lost_palette(self):
         remains = salvage(bytes_of([COLOURED, (2, (0, 0, 1, 4) + packed_by_hand("000" + "0001"))]))

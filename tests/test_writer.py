@@ -4,6 +4,7 @@ import unittest
 
 from keptpictures.errors import BadPalette, BadPlan, KeepError, NoColour
 from keptpictures.files.plan import Plan, even_plan
+from keptpictures.files.whole import read_file, read_plan
 from keptpictures.files.writer import write_file
 from keptpictures.pictures.picture import Picture
 from tests.chunks_by_hand import chunk_by_hand
@@ -76,6 +77,13 @@ class WriteTest(unittest.TestCase):
         data = write_file(picture, even_plan(picture, most=64))
         fronts = [data[at + 1:at + 5] for at in range(len(data)) if data[at] == 130]
         self.assertEqual(fronts, [(0, 0, 64, 0), (0, 64, 64, 0), (1, 0, 32, 0)])
+        counts = (27, 100, 1, 1, 31)
+        plan = Plan(chunks=[(count, 0, (0,) * count) for count in counts])
+        data = write_file(picture, plan)
+        fronts = [data[at + 1:at + 4] for at in range(len(data)) if data[at] == 130]
+        self.assertEqual(fronts, [(0, 0, 27), (0, 27, 100), (0, 127, 1), (1, 0, 1), (1, 1, 31)])
+        self.assertTrue(read_plan(data) == plan)
+        self.assertTrue(read_file(data) == picture)
 
     def test_the_least_tokens_are_written(self):
         picture = Picture.of((1,), [[(0,)] * 9])
