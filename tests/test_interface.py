@@ -29,6 +29,11 @@ FUNCTIONS = {
     "keptpictures.files.completion": ("completion",),
     "keptpictures.hurts.remains": ("salvage", "select_rows"),
     "keptpictures.hurts.fitting": ("fits", "whole_file"),
+    "keptpictures.knowledge.facts": ("facts_of", "known"),
+    "keptpictures.knowledge.peeling": ("peeled",),
+    "keptpictures.knowledge.edited": ("edited", "edited_colours"),
+    "keptpictures.knowledge.shown": ("sample_values", "restored"),
+    "keptpictures.knowledge.separating": ("separating_files",),
 }
 
 METHODS = {
@@ -51,6 +56,12 @@ METHODS = {
     ("keptpictures.files.reader", "Reader"): (
         "__init__", "feed", "taken", "whole_chunks", "received_lanes", "received_passes", "done", "coarse", "picture"),
     ("keptpictures.hurts.remains", "Remains"): ("__init__",),
+    ("keptpictures.hurts.survey", "Survey"): ("__init__", "lines"),
+    ("keptpictures.hurts.survey", "CountedSurvey"): ("lines",),
+    ("keptpictures.hurts.survey", "SummedSurvey"): ("lines",),
+    ("keptpictures.knowledge.knowledge", "Knowledge"): (
+        "__init__", "__eq__", "__and__", "__or__", "tells", "facts", "normal_form", "answer", "certificate",
+        "step_sheet", "count", "least_sheet", "allows"),
 }
 
 STATIC = (
@@ -163,6 +174,28 @@ ARGUMENTS = {
     ("keptpictures.hurts.remains", "select_rows"): "(report, **fields)",
     ("keptpictures.hurts.fitting", "fits"): "(remains, body)",
     ("keptpictures.hurts.fitting", "whole_file"): "(remains, body)",
+    ("keptpictures.hurts.survey", "Survey"): "(remains)",
+    ("keptpictures.hurts.survey", "CountedSurvey"): "(remains)",
+    ("keptpictures.hurts.survey", "SummedSurvey"): "(remains)",
+    ("keptpictures.hurts.survey", "SummedSurvey.lines"): "(self)",
+    ("keptpictures.knowledge.knowledge", "Knowledge"): "(width, height, moduli, facts)",
+    ("keptpictures.knowledge.knowledge", "Knowledge.tells"): "(self, other)",
+    ("keptpictures.knowledge.knowledge", "Knowledge.facts"): "(self, z)",
+    ("keptpictures.knowledge.knowledge", "Knowledge.normal_form"): "(self, z)",
+    ("keptpictures.knowledge.knowledge", "Knowledge.answer"): "(self, z, question)",
+    ("keptpictures.knowledge.knowledge", "Knowledge.certificate"): "(self, z, question)",
+    ("keptpictures.knowledge.knowledge", "Knowledge.step_sheet"): "(self, z, question)",
+    ("keptpictures.knowledge.knowledge", "Knowledge.count"): "(self)",
+    ("keptpictures.knowledge.knowledge", "Knowledge.least_sheet"): "(self, z)",
+    ("keptpictures.knowledge.knowledge", "Knowledge.allows"): "(self, body)",
+    ("keptpictures.knowledge.facts", "facts_of"): "(remains, z)",
+    ("keptpictures.knowledge.facts", "known"): "(remains)",
+    ("keptpictures.knowledge.peeling", "peeled"): "(knowledge, z)",
+    ("keptpictures.knowledge.edited", "edited"): "(knowledge, recipe)",
+    ("keptpictures.knowledge.edited", "edited_colours"): "(knowledge, palette, recipe)",
+    ("keptpictures.knowledge.shown", "sample_values"): "(remains, x, y, plane)",
+    ("keptpictures.knowledge.shown", "restored"): "(remains)",
+    ("keptpictures.knowledge.separating", "separating_files"): "(remains, z, question)",
 }
 
 

@@ -30,9 +30,15 @@ def spare_row(sheet, listed, power):
     _, _, first, step, count = listed[0]
     sums = [0] * count
     for place, (_, y, _, _, _) in enumerate(listed):
-        weight = 1
-        for _ in range(power):
-            weight = weight * (place + 1)
+        weight = spare_weight(place, power)
         for at in range(count):
             sums[at] = (sums[at] + weight * sheet.rows[y][first + at * step]) % sheet.modulus
     return tuple(sums)
+
+
+def spare_weight(place, power):
+    """Return the weight of the track at this place of a pass in the spare with this number."""
+    weight = 1
+    for _ in range(power):
+        weight = weight * (place + 1)
+    return weight

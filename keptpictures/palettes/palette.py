@@ -83,3 +83,11 @@ def first_wrong_colour(colours, depths):
             return place
         seen[colour] = True
     return None
+
+
+def shifted_palette(palette, shifts):
+    """Return the palette shifted plane by plane."""
+    shifted = palette
+    for plane, shift in enumerate(shifts):
+        shifted = shifted.shifted(plane, shift)
+    return shifted

@@ -1,0 +1,1 @@
+"""Knowledge: what is left of a file tells this about its samples."""
