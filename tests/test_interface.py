@@ -34,6 +34,13 @@ FUNCTIONS = {
     "keptpictures.knowledge.edited": ("edited", "edited_colours"),
     "keptpictures.knowledge.shown": ("sample_values", "restored"),
     "keptpictures.knowledge.separating": ("separating_files",),
+    "keptpictures.planning.prices": ("stretch_price", "potentials"),
+    "keptpictures.planning.cheapest": ("cheapest",),
+    "keptpictures.planning.budget": ("most_lanes",),
+    "keptpictures.planning.normal": ("normal_file", "same_picture"),
+    "keptpictures.editing.files": ("edit_file", "changed_chunks"),
+    "keptpictures.desk.wording": ("write_command", "read_command"),
+    "keptpictures.desk.playing": ("play",),
 }
 
 METHODS = {
@@ -62,6 +69,7 @@ METHODS = {
     ("keptpictures.knowledge.knowledge", "Knowledge"): (
         "__init__", "__eq__", "__and__", "__or__", "tells", "facts", "normal_form", "answer", "certificate",
         "step_sheet", "count", "least_sheet", "allows"),
+    ("keptpictures.desk.desk", "Desk"): ("__init__", "do", "undo", "set_limit", "item", "names", "steps", "limit"),
 }
 
 STATIC = (
@@ -82,6 +90,9 @@ PROPERTIES = (
     ("keptpictures.files.reader", "Reader", "received_lanes"),
     ("keptpictures.files.reader", "Reader", "received_passes"),
     ("keptpictures.files.reader", "Reader", "done"),
+    ("keptpictures.desk.desk", "Desk", "names"),
+    ("keptpictures.desk.desk", "Desk", "steps"),
+    ("keptpictures.desk.desk", "Desk", "limit"),
 )
 
 ARGUMENTS = {
@@ -196,6 +207,23 @@ ARGUMENTS = {
     ("keptpictures.knowledge.shown", "sample_values"): "(remains, x, y, plane)",
     ("keptpictures.knowledge.shown", "restored"): "(remains)",
     ("keptpictures.knowledge.separating", "separating_files"): "(remains, z, question)",
+    ("keptpictures.planning.prices", "stretch_price"): "(body, word, first, count, preset, *, careful=False)",
+    ("keptpictures.planning.prices", "potentials"): "(body, word='', *, careful=False)",
+    ("keptpictures.planning.cheapest", "cheapest"):
+        "(picture, *, orders=('none', 'value', 'first', 'often'), words=('',), spares=0, careful=False)",
+    ("keptpictures.planning.budget", "most_lanes"): "(picture, budget, *, order='none', word='', spares=0)",
+    ("keptpictures.planning.normal", "normal_file"): "(data)",
+    ("keptpictures.planning.normal", "same_picture"): "(one, other)",
+    ("keptpictures.editing.files", "edit_file"): "(data, edits)",
+    ("keptpictures.editing.files", "changed_chunks"): "(one, other)",
+    ("keptpictures.desk.wording", "write_command"): "(command)",
+    ("keptpictures.desk.wording", "read_command"): "(line)",
+    ("keptpictures.desk.desk", "Desk"): "()",
+    ("keptpictures.desk.desk", "Desk.do"): "(self, *commands)",
+    ("keptpictures.desk.desk", "Desk.undo"): "(self)",
+    ("keptpictures.desk.desk", "Desk.set_limit"): "(self, number)",
+    ("keptpictures.desk.desk", "Desk.item"): "(self, name)",
+    ("keptpictures.desk.playing", "play"): "(desk, text)",
 }
 
 

@@ -63,7 +63,8 @@ class LanguageTest(unittest.TestCase):
         for file, node in nodes((ast.FunctionDef, ast.ClassDef)):
             for decorator in node.decorator_list:
                 self.assertIsInstance(node, ast.FunctionDef, file)
-                self.assertIn(ast.unparse(decorator), ("staticmethod", "property"), (file, node.name))
+                allowed = ("staticmethod", "property", node.name + ".setter")
+                self.assertIn(ast.unparse(decorator), allowed, (file, node.name))
 
     def test_lists_are_not_sorted_in_place(self):
         for file, node in nodes(ast.Attribute):

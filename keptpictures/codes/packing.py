@@ -14,3 +14,8 @@ def pack(bits):
 def unpack(content):
     """Return the bits that the numbers hold."""
     return "".join([bits_of(number, PLACES) for number in content])
+
+
+def packed_length(many):
+    """Return into how many numbers so many bits are packed."""
+    return (many + PLACES - 1) // PLACES

@@ -1,0 +1,1 @@
+"""The desk: named items, and commands that work on them."""

@@ -1,0 +1,1 @@
+"""Editing: files of edited pictures."""
