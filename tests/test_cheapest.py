@@ -130,6 +130,52 @@ class CheapestTest(unittest.TestCase):
                 lane -= count
             self.assertEqual(told.chunks, tuple(chunks))
 
+    def test_chunks_of_any_counts(self):
+        # Stretches of noise and of calm rows, so that several chunks are cheaper than one.
+        chance = chances(10)
+        counts = set()
+        for _ in range(12):
+            rows = []
+            for _ in range(chance.randint(2, 4)):
+                noisy = chance.random() < 0.5
+                rows += [[(chance.randrange(65536 if noisy else 4),) for _ in range(20)]
+                         for _ in range(chance.randint(1, 4))]
+            picture = Picture.of((16,), rows)
+            told = cheapest(picture, orders=("none",))
+            stretches = Stretches(picture.planes, "")
+            values = [0] * (len(rows) + 1)
+            for a in reversed(range(len(rows))):
+                values[a] = min(stretches.price(a, count, preset) + values[a + count]
+                                for count in range(1, len(rows) - a + 1) for preset in stretches.presets)
+            lane = 0
+            for count, preset, kinds in told.chunks:
+                reached = [(-more, other) for more in range(1, len(rows) - lane + 1) for other in stretches.presets
+                           if stretches.price(lane, more, other) + values[lane + more] == values[lane]]
+                self.assertEqual((-count, preset), min(reached))
+                self.assertEqual(kinds, stretches.least_filters(lane, count, preset))
+                lane += count
+            self.assertEqual(lane, len(rows))
+            counts |= {count for count, _, _ in told.chunks if count < len(rows)}
+        self.assertTrue({1, 2, 3} <= counts, counts)
+
+    def test_each_order_wins_by_default(self):
+        chance = chances(11)
+        won = set()
+        for _ in range(400):
+            colours = [chance.randrange(2 ** 8) for _ in range(chance.randint(3, 8))]
+            rows = [[(chance.choice(colours[:chance.randint(1, len(colours))]),) for _ in range(chance.randint(8, 8))]
+                    for _ in range(8)]
+            picture = Picture.of((8,), rows)
+            lengths = {order: len(write_file(picture, cheapest(picture, orders=(order,)))) for order in ORDERS}
+            least = [order for order in ORDERS if lengths[order] == min(lengths.values())]
+            if len(least) > 1 or least[0] in won:
+                continue
+            won.add(least[0])
+            self.assertEqual(cheapest(picture), cheapest(picture, orders=(least[0],)))
+            if len(won) == 3 and "none" not in won or len(won) == 4:
+                break
+        self.assertTrue({"value", "first", "often"} <= won, won)
+
     def test_more_lanes_than_a_chunk_holds(self):
         picture = Picture.of((1,) * 4, [[(0,) * 4]] * 40)
         told = cheapest(picture, orders=("none",))

@@ -17,6 +17,7 @@ from keptpictures.knowledge.knowledge import Knowledge
 from keptpictures.pictures.picture import Picture
 from keptpictures.pictures.recipe import recipe_of
 from keptpictures.planning.cheapest import cheapest
+from tests.chunks_by_hand import chunk_by_hand
 from tests.commands_by_hand import likely_command
 from tests.desk_by_hand import PlainDesk
 from tests.files_by_hand import bytes_of
@@ -188,6 +189,14 @@ class DeskTest(unittest.TestCase):
         desk.do(("keep", "f", 0), ("mend", "f"))
         self.assertEqual(desk.item("f"), ())
 
+    def test_pieces_of_129_bytes_and_130(self):
+        for numbers, is_mended in ((0, True), (1, True), (124, True), (125, True), (126, False), (200, False)):
+            chunk = chunk_by_hand(2, (5,) * numbers)
+            hurt = (7, 7) + chunk[:-1] + (chunk[-1] ^ 64,) + (200, 3, 9)
+            desk = self.desk_with(hurt)
+            desk.do(("mend", "f"))
+            self.assertEqual(desk.item("f"), (7, 7) + chunk + (200, 3, 9) if is_mended else hurt)
+
     def test_join(self):
         desk = laid()
         data = desk.item("f")
@@ -281,15 +290,20 @@ class DeskTest(unittest.TestCase):
         self.assertEqual(self.show_of(bytes_of(chunks)), ("##",) * 6)
 
     def show_of(self, data):
-        """Return what a desk shows of the knowledge of a byte text, which is put together by commands."""
+        """Return what a desk shows of the knowledge of a byte text."""
+        desk = self.desk_with(data)
+        desk.do(("know", "k", "f"))
+        return desk.do(("show", "k"))[0]
+
+    def desk_with(self, data):
+        """Return a desk with a byte text f, which is put together by commands."""
         desk = Desk()
         desk.do(("new", "p", 1, 1, (1,), False), ("save", "f", "p", "none", "", 0))
         while len(desk.item("f")) < len(data):
             desk.do(("join", "f", "f", "f"))
         desk.do(("keep", "f", len(data)), *[("set", "f", at, byte) for at, byte in enumerate(data)])
         self.assertEqual(desk.item("f"), data)
-        desk.do(("know", "k", "f"))
-        return desk.do(("show", "k"))[0]
+        return desk
 
     def test_forget(self):
         desk = laid()

@@ -90,6 +90,14 @@ class StretchPriceTest(unittest.TestCase):
             self.assertGreater(told, 8)
             self.assertLessEqual(told, sum(stretch_price(body, "", 20 + k, 1, preset) - 8 for k in range(100)) + 8)
 
+    def test_careful_stretches_do_without_the_filters_that_look_up(self):
+        row = some_sheet(chances(8), 256, 20, 1).rows[0]
+        body = (Sheet(256, [row, row]),)
+        self.assertEqual(stretch_price(body, "", 1, 1, 1), 8 + (3 + 1 * 5 + 1 * 5 + 5 + 6) // 7)
+        self.assertEqual(stretch_price(body, "", 1, 1, 1, careful=False), stretch_price(body, "", 1, 1, 1))
+        self.assertGreater(stretch_price(body, "", 1, 1, 1, careful=True), 20)
+        self.assertEqual(stretch_price(body, "", 0, 1, 16, careful=True), stretch_price(body, "", 0, 1, 16))
+
     def test_stretches_of_a_part_of_a_track(self):
         body = (Sheet(4, [[0, 3], [1, 2]]), Sheet(2, [[0, 1], [1, 0]]))
         for first, count in ((0, 1), (1, 1), (1, 2), (2, 1), (0, 3)):
@@ -142,6 +150,15 @@ class PotentialsTest(unittest.TestCase):
                         self.assertLessEqual(values[a], bound)
                         reached = reached or values[a] == bound
                     self.assertTrue(reached)
+
+    def test_presets_for_the_greatest_modulus(self):
+        noise = some_sheet(chances(9), 65536, 40, 1)
+        for body in ((noise, Sheet.even(2, 40, 1)), (Sheet.even(2, 40, 1), noise)):
+            stretches = Stretches(body, "")
+            apart = min(stretches.price(0, 1, preset) for preset in range(34)) + potentials(body)[0][1]
+            together = min(stretches.price(0, 2, preset) for preset in range(34))
+            self.assertEqual(potentials(body)[0][0], min(apart, together))
+            self.assertLess(potentials(body)[0][0], min(stretches.price(0, 2, preset) for preset in range(4)))
 
     def test_passes_without_tracks(self):
         self.assertEqual(potentials((Sheet(2, [[1]]),), "ad"), [(9, 0), (0,), (0,)])

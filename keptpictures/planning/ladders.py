@@ -50,7 +50,8 @@ class Ladders:
 
 def run_price(literal, again, most, run):
     """Return the fewest bits of so many equal numbers, where a repetition of at most so many has the bits `again`."""
-    if most == 0 or again >= most * literal:
+    # A full repetition may not be worth its bits; if there is none at all, both sides are 0.
+    if again >= most * literal:
         return run * literal
     full, rest = divmod(run, most)
     return full * again + min(again, rest * literal)
