@@ -109,6 +109,8 @@ class StretchPriceTest(unittest.TestCase):
         stretch_price(body, "a", 0, 1, 0)
         potentials(body, "a")
         self.assertEqual(body, (Sheet(4, [[0, 3], [1, 2]]),))
+        potentials(body).clear()
+        self.assertEqual(len(potentials(body)), 1)
 
 
 class PotentialsTest(unittest.TestCase):

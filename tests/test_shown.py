@@ -101,6 +101,12 @@ class SampleValuesTest(unittest.TestCase):
         remains = salvage(bytes_of([(0, (1, 1, 2, 0, 1, 16, 1, 0, 0))]))
         self.assertEqual(sample_values(remains, 0, 0, 1), list(range(65536)))
 
+    def test_lists_are_not_kept(self):
+        for head in ((0, (1, 1, 1, 0, 2, 0, 0, 0)), (0, (1, 1, 1, 0, 2, 3, 0, 0))):
+            remains = salvage(bytes_of([head]))
+            sample_values(remains=remains, x=0, y=0, plane=0).clear()
+            self.assertEqual(sample_values(remains, 0, 0, 0), [0, 1, 2, 3])
+
     def test_the_errors_in_their_order(self):
         large = salvage(bytes_of([(0, (40, 2, 1, 0, 1, 0, 0, 0))]))
         clash = salvage(bytes_of([HEAD, DATA, CLASH]))
